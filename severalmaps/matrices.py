@@ -98,14 +98,20 @@ def solutions(equations, many, p):
     for each unknown the numbers whose products with the free ones add up to it.
     An unknown is only expressed by those ahead of it, so these rather stay free.
     """
+    worths = expressed(equations, many, p)
+    free = [at for at in range(many) if worths[at] == 1 << (BITS * at)]
+    return free, tuple([digits(worth, free, p) for worth in worths])
+
+
+def expressed(equations, many, p):
+    """For each unknown, the packed row of the numbers by which the free ones add up to it."""
     mask = sum([(LIMIT - 1) << (BITS * at) for at in range(many)])
     worths = [1 << (BITS * at) for at in range(many)]
     for equation in equations:
         total = settled(sum([number * worths[at] for at, number in equation]), p, mask)
         if total:
             worths = without_last(worths, total, p, mask)
-    free = [at for at in range(many) if worths[at] == 1 << (BITS * at)]
-    return free, tuple([digits(worth, free, p) for worth in worths])
+    return worths
 
 
 def without_last(worths, total, p, mask):
@@ -129,6 +135,20 @@ def replaced(worth, shift, change, p, mask):
 def terms(row):
     """The equation that a row of a matrix stands for."""
     return [(at, number) for at, number in enumerate(row) if number]
+
+
+def combination(vectors, target, p):
+    """Numbers whose products with the vectors add up to the target, or None."""
+    # The target's negative stands first: so its unknown stays free, and can be 1
+    # while the other free ones are 0, exactly if there are such numbers.
+    equations = [
+        terms([(p - goal) % p] + [vector[at] for vector in vectors])
+        for at, goal in enumerate(target)
+    ]
+    worths = expressed(equations, len(vectors) + 1, p)
+    if worths[0] != 1:
+        return None
+    return tuple([digits(worth, [0], p)[0] for worth in worths[1:]])
 
 
 def null_space(matrix, columns, p):

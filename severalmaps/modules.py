@@ -54,9 +54,19 @@ def are_maps(thing, p, arrows, dims):
     return all([is_matrix(matrix, dims[t], dims[s], p) for matrix, (s, t) in zip(thing, arrows)])
 
 
+def are_of_one_kind(module, other):
+    """Tells whether two modules are of one kind."""
+    return module[:2] == other[:2] and len(module[2]) == len(other[2])
+
+
+def is_of_kind(module, thing):
+    """Tells whether a thing is a module of a module's kind."""
+    return is_module(thing) and are_of_one_kind(module, thing)
+
+
 def check_kind(module, other):
     """Raises BadArgument if two modules are of unlike kinds."""
-    if module[:2] != other[:2] or len(module[2]) != len(other[2]):
+    if not are_of_one_kind(module, other):
         raise BadArgument("the modules are of unlike kinds")
 
 
@@ -65,6 +75,13 @@ def check_pair(module, other):
     check_module(module)
     check_module(other)
     check_kind(module, other)
+
+
+def check_small_pair(module, other):
+    """Checks that two arguments are modules, of one kind, and small."""
+    check_pair(module, other)
+    if not is_small(module) or not is_small(other):
+        raise TooLarge("a module is not small")
 
 
 def size(module):

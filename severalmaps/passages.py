@@ -45,6 +45,11 @@ def after(module, other, third, first, second):
     check_kind(module, other)
     check_passage(module, other, first)
     check_passage(other, third, second)
+    return composed(module, first, second)
+
+
+def composed(module, first, second):
+    """First and then second, for what are known to be passages; first leads from module."""
     p, _, dims, _ = module
     return tuple([times(g, f, dim, p) for g, f, dim in zip(second, first, dims)])
 
@@ -201,7 +206,15 @@ def rest(module, other, passage):
     check_pair(module, other)
     check_passage(module, other, passage)
     # Turned, the rest is the kernel of the turned passage.
-    back = [transposed(matrix, dim) for matrix, dim in zip(passage, module[2])]
-    told, into = kernel_of(turn(other), back)
-    onto = [transposed(matrix, dim) for matrix, dim in zip(into, told[2])]
-    return turn(told), tuple(onto)
+    told, into = kernel_of(turn(other), turned_over(passage, module[2]))
+    return turn(told), turned_over(into, told[2])
+
+
+def turned_over(matrices, columns):
+    """The transposed matrices, by their numbers of columns."""
+    return tuple([transposed(matrix, many) for matrix, many in zip(matrices, columns)])
+
+
+def stacked(told, spaces):
+    """For each space, the rows of the matrices of several passages from one module in one matrix."""
+    return tuple([tuple([row for passage in told for row in passage[v]]) for v in range(spaces)])

@@ -34,6 +34,9 @@ THINGS = (
     [2, (), (1,), ()], (2, (), (1,), (), ()), object(), int, len, range(4),
 )
 
+# The words of all papers, and others.
+WORDS = ("alike", "apart", "part", "not", "made", "covered", "seen", "", "yes", "Alike", "unlike", "parts")
+
 
 def source(seed):
     """A source of numbers that are the same in each run."""
@@ -131,8 +134,8 @@ def flat(passage):
     return [number for matrix in passage for row in matrix for number in row]
 
 
-def rank(rows, p):
-    """The number of rows of a matrix that are not sums of multiples of others."""
+def echelon(rows, p):
+    """Rows that span the same and are no sums of multiples of one another."""
     rows = [list(row) for row in rows]
     found = 0
     for column in range(len(rows[0]) if rows else 0):
@@ -147,7 +150,12 @@ def rank(rows, p):
                 for at, number in enumerate(pivot):
                     row[at] = (row[at] - many * number) % p
             found += 1
-    return found
+    return rows[:found]
+
+
+def rank(rows, p):
+    """The number of rows of a matrix that are not sums of multiples of others."""
+    return len(echelon(rows, p))
 
 
 def ranks(passage, p):
@@ -245,8 +253,13 @@ def spoiled(value, p, numbers_too=True):
     """The value with one thing within it spoiled, in each of many ways.
 
     A tuple becomes a list, or gets an item too many or too few; a number
-    becomes True, False, a text, None, a fraction, or leaves its bounds.
+    becomes True, False, a text, None, a fraction, or leaves its bounds; a text
+    becomes another one, or something else.
     """
+    if type(value) is str:
+        yield from WORDS
+        yield from (value.upper(), value + " ", value[:-1], value.encode(), list(value), (value,), None, True)
+        return
     if type(value) is int:
         if numbers_too:
             yield from (bool(value), -1, value - p, value + p, p, None, str(value), float(value), (value,))
@@ -259,4 +272,25 @@ def spoiled(value, p, numbers_too=True):
         yield value[:-1]
     for at, item in enumerate(value):
         for other in spoiled(item, p, numbers_too):
+            yield value[:at] + (other,) + value[at + 1:]
+
+
+def changed(value, p):
+    """The value with one number within it changed to another one, for each number."""
+    if type(value) is int:
+        yield (value + 1) % p
+    elif type(value) is tuple:
+        for at, item in enumerate(value):
+            for other in changed(item, p):
+                yield value[:at] + (other,) + value[at + 1:]
+
+
+def exchanged(value):
+    """The value with two unlike things that stand side by side within it exchanged."""
+    if type(value) is not tuple:
+        return
+    for at, item in enumerate(value):
+        if at and item != value[at - 1]:
+            yield value[:at - 1] + (item, value[at - 1]) + value[at + 1:]
+        for other in exchanged(item):
             yield value[:at] + (other,) + value[at + 1:]

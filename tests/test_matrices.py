@@ -53,6 +53,26 @@ class EquationsTest(unittest.TestCase):
                     self.assertEqual([into[at] for at in free], list(matrices.unit_matrix(len(free))))
                     self.assertFalse(any(support.flat([support.times(matrix, into, len(free), p)])))
 
+    def test_combinations(self):
+        rng = support.source(32)
+        found = []
+        for p in support.PRIMES:
+            for many, length in ((3, 5), (5, 3), (4, 4), (0, 3), (3, 0), (1, 1), (2, 6)):
+                for bound in (p, 2, 2):
+                    vectors = support.random_matrix(rng, bound, many, length)
+                    target, = support.random_matrix(rng, bound, 1, length)
+                    inside, = support.times(support.random_matrix(rng, p, 1, many), vectors, length, p)
+                    for goal in (target, inside, (0,) * length):
+                        numbers = matrices.combination(vectors, goal, p)
+                        there = support.rank(vectors + (goal,), p) == support.rank(vectors, p)
+                        found.append(there)
+                        if not there:
+                            self.assertIsNone(numbers)
+                            continue
+                        self.assertTrue(support.has_shape((p, (), (many,), ()), (p, (), (1,), ()), ((numbers,),)))
+                        self.assertEqual(support.times((numbers,), vectors, length, p), (goal,))
+        self.assertGreater(found.count(False), 20)
+
     def test_factors(self):
         rng = support.source(30)
         for p in support.PRIMES:

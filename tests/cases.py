@@ -86,6 +86,17 @@ def chain(p, spaces):
     return (p, CHAIN, dims, maps)
 
 
+def strand(p, arrows, order):
+    """The module with a basis vector in each of the spaces of an order, each led to the next one by an arrow."""
+    spaces = max(order) + 1
+    places = [order[:at].count(space) for at, space in enumerate(order)]
+    dims = tuple(order.count(space) for space in range(spaces))
+    maps = [[[0] * dims[s] for _ in range(dims[t])] for s, t in arrows]
+    for at in range(len(order) - 1):
+        maps[arrows.index((order[at], order[at + 1]))][places[at + 1]][places[at]] = 1
+    return (p, arrows, dims, tuple(tuple(tuple(row) for row in matrix) for matrix in maps))
+
+
 def drawn_pairs(rng, p):
     """Drawn modules against themselves in other bases, unlike ones, smaller ones and those without maps."""
     told = []
@@ -123,7 +134,9 @@ def told_by_a_third(p):
     ends = add(simple(p, LINE, 2, 0), simple(p, LINE, 2, 1))
     zero, one = ((0, 0), (0, 0)), ((0, 0), (0, 1))
     loops = LOOP + LOOP
+    steps = ((0, 0), (0, 1), (1, 0))
     return [
+        (strand(p, steps, (0, 0, 1, 0)), strand(p, steps, (0, 1, 0, 0))),
         (add(point(p, 1, 0), point(p, 0, 1)), ends),
         (add(point(p, 1, 1), point(p, 1, 0)), ends),
         ((p, ROUND, (1, 1), (((0,),), ((1,),))), (p, ROUND, (1, 1), (((1,),), ((0,),)))),
@@ -152,6 +165,10 @@ def named_pairs(rng, p):
     told.append((total(ends[0], point(p, 1, 1), point(p, 1, 1)), total(ends[0], ends[0], point(p, 1, 1))))
     told.append((add(chain(p, (0, 1, 2)), chain(p, (1,))), moved(rng, add(chain(p, (0, 1)), chain(p, (1, 2))))))
     told.append((add(chain(p, (0, 1)), chain(p, (2,))), add(chain(p, (0,)), chain(p, (1, 2)))))
+    # Chains over three spaces with the middle two exchanged.
+    steps = ((0, 0), (0, 1), (1, 2), (1, 0), (0, 2))
+    told.append((strand(p, steps, (0, 0, 1, 2)), strand(p, steps, (0, 1, 0, 2))))
+    told.append((strand(p, steps, (0, 0, 1, 2)), moved(rng, strand(p, steps, (0, 0, 1, 2)))))
     # A and twice B against twice A and B.
     a, b = single(p, 0, 1), single(p, 1, 0)
     told.append((moved(rng, total(a, b, b)), moved(rng, total(b, a, a))))

@@ -3,7 +3,7 @@
 from severalmaps.matrices import combination, is_matrix, is_row, null_space, reciprocal, transposed
 from severalmaps.modules import check_small_pair
 from severalmaps.papers import is_paper
-from severalmaps.passages import composed, identity, leads, mix, passages, stacked, turned_over, unfolded
+from severalmaps.passages import composed, identity, leads, listed, mix, passages, stacked, turned_over, unfolded
 
 
 def made_of(module, other):
@@ -21,11 +21,6 @@ def made_of(module, other):
         if any(chosen):
             pairs.append((first, mix(other, module, tuple(behind), chosen)))
     return "made", tuple(pairs)
-
-
-def listed(passage):
-    """All numbers of a passage, space by space, row by row."""
-    return tuple([number for matrix in passage for row in matrix for number in row])
 
 
 def reading_against(module, loops):

@@ -21,9 +21,14 @@ def is_module(thing):
     if type(thing) != tuple or len(thing) != 4:
         return False
     p, arrows, dims, maps = thing
-    if type(p) != int or p not in PRIMES:
+    if not is_prime(p) or not are_dims(dims) or not are_arrows(arrows, len(dims)):
         return False
-    return are_dims(dims) and are_arrows(arrows, len(dims)) and are_maps(maps, p, arrows, dims)
+    return are_maps(maps, p, arrows, dims)
+
+
+def is_prime(thing):
+    """Tells whether a thing is one of the primes."""
+    return type(thing) == int and thing in PRIMES
 
 
 def are_dims(thing):
@@ -75,6 +80,13 @@ def check_pair(module, other):
     check_module(module)
     check_module(other)
     check_kind(module, other)
+
+
+def check_small(module):
+    """Checks that an argument is a module, and small."""
+    check_module(module)
+    if not is_small(module):
+        raise TooLarge("the module is not small")
 
 
 def check_small_pair(module, other):

@@ -152,6 +152,11 @@ def terms_behind(start, row, step, p):
     return [(start + k * step, p - scale) for k, scale in enumerate(row) if scale]
 
 
+def listed(passage):
+    """All numbers of a passage, space by space, row by row."""
+    return tuple([entry for matrix in passage for row in matrix for entry in row])
+
+
 def unfolded(module, other, numbers):
     """The matrices that have these numbers, space by space, row by row."""
     first_unknowns = starts(module, other)

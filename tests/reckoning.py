@@ -8,13 +8,17 @@ from severalmaps.passages import number, passages
 from tests.support import echelon, fits, flat, one_after_other, ones, plain_number, rank, times, zeros
 
 
-def is_of_kind(module, thing):
-    """Whether this is a module of the module's kind."""
+def is_module(thing):
     try:
         check_module(thing)
     except BadModule:
         return False
-    return thing[:2] == module[:2] and len(thing[2]) == len(module[2])
+    return True
+
+
+def is_of_kind(module, thing):
+    """Whether this is a module of the module's kind."""
+    return is_module(thing) and thing[:2] == module[:2] and len(thing[2]) == len(module[2])
 
 
 def size(module):

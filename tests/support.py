@@ -1,5 +1,6 @@
 """What the tests share: modules to test with, and plain checks by the definitions."""
 
+from functools import lru_cache
 from itertools import product
 from random import Random
 
@@ -215,6 +216,22 @@ def plain_number(module, other):
 def all_matrices(p, rows, columns):
     lines = list(product(range(p), repeat=columns))
     return list(product(lines, repeat=rows))
+
+
+def all_modules(p, arrows, dims):
+    tables = [all_matrices(p, dims[t], dims[s]) for s, t in arrows]
+    return [(p, arrows, dims, maps) for maps in product(*tables)]
+
+
+@lru_cache(maxsize=None)
+def all_squares(p, n):
+    """All invertible matrices with n rows, found by their ranks."""
+    return [matrix for matrix in all_matrices(p, n, n) if rank(matrix, p) == n]
+
+
+def all_changes(p, dims):
+    """All changes of basis."""
+    return list(product(*[all_squares(p, n) for n in dims]))
 
 
 def all_tuples(module, other):

@@ -10,21 +10,10 @@ from severalmaps.passages import identity, inverse, number
 from tests import cases, reckoning, support
 
 
-def all_modules(p, arrows, dims):
-    tables = [support.all_matrices(p, dims[t], dims[s]) for s, t in arrows]
-    return [(p, arrows, dims, maps) for maps in product(*tables)]
-
-
-def all_changes(p, dims):
-    """All changes of basis, found by their ranks."""
-    squares = [[m for m in support.all_matrices(p, n, n) if support.rank(m, p) == n] for n in dims]
-    return list(product(*squares))
-
-
 def classes(modules):
     """For each of all modules of some dims, the first one that leads to it by changes."""
     p, _, dims, _ = modules[0]
-    changes = all_changes(p, dims)
+    changes = support.all_changes(p, dims)
     told = {}
     for module in modules:
         if module not in told:
@@ -70,7 +59,7 @@ class AlikeTest(unittest.TestCase):
             (2, cases.LOOP, (3,)), (2, cases.ROUND, (2, 2)), (2, cases.CHAIN, (1, 2, 1)), (3, cases.LOOP, (2,)),
             (3, cases.LINE, (1, 1)), (5, cases.LINE, (1, 1)), (2, ((0, 1), (1, 1)), (2, 2)), (7, cases.LOOP * 2, (1,)),
         ):
-            modules = all_modules(p, arrows, dims)
+            modules = support.all_modules(p, arrows, dims)
             first = classes(modules)
             for _ in range(120):
                 module, other = rng.choice(modules), rng.choice(modules)
